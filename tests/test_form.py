@@ -23,6 +23,10 @@ ArithmeticError OverflowError RuntimeError NotImplementedError AttributeError St
 METHODS = """append clear copy count endswith extend find get index insert isalnum isalpha isdigit islower isspace
 isupper items join keys ljust lower lstrip partition pop remove replace reverse rfind rjust rpartition rsplit rstrip
 setdefault split splitlines startswith strip update upper values zfill bit_length""".split()
+KEYWORDS = {
+    "sorted": ("key", "reverse"), "min": ("key", "default"), "max": ("key", "default"), "sum": ("start",),
+    "enumerate": ("start",), "zip": ("strict",),
+}
 DUNDER = ("__init__", "__eq__", "__repr__", "__str__", "__len__")
 WORDS_OUT = """type typing typing_extensions enum Enum IntEnum StrEnum Flag IntFlag Generic Protocol ABC ABCMeta
 namedtuple NamedTuple TypedDict TYPE_CHECKING abstractmethod""".split()
@@ -46,6 +50,31 @@ def nodes_of(kind):
 
 def is_text(node):
     return isinstance(node, ast.Constant) and isinstance(node.value, str)
+
+
+def own_classes():
+    return {node.name for name, node in nodes_of(ast.ClassDef)}
+
+
+def loose_classes(tree):
+    """Names of classes that are neither called nor a base, nor beside isinstance or except."""
+    held = set()
+    classes = own_classes()
+    for node in ast.walk(tree):
+        if isinstance(node, ast.ClassDef):
+            held |= {id(base) for base in node.bases}
+        elif isinstance(node, ast.ExceptHandler):
+            held |= {id(part) for part in ast.walk(node.type)}
+        elif isinstance(node, ast.Call):
+            held.add(id(node.func))
+            if isinstance(node.func, ast.Name) and node.func.id == "isinstance":
+                held |= {id(part) for part in ast.walk(node.args[1])}
+        elif isinstance(node, ast.Attribute) and node.attr == "__init__":
+            held.add(id(node.value))
+    return [
+        node.id for node in ast.walk(tree)
+        if isinstance(node, ast.Name) and node.id in classes and id(node) not in held
+    ]
 
 
 def own_methods():
@@ -100,6 +129,16 @@ class TestTops(unittest.TestCase):
             for node in body[1:]:
                 with self.subTest(file=path.name, row=node.lineno):
                     self.assertIsInstance(node, (ast.ImportFrom, ast.FunctionDef, ast.ClassDef, ast.Assign))
+
+    def test_values_of_a_files_top_are_written_out(self):
+        for path in files():
+            for node in ast.parse(path.read_text("ascii")).body:
+                if isinstance(node, ast.Assign):
+                    with self.subTest(file=path.name, row=node.lineno):
+                        for part in ast.walk(node.value):
+                            self.assertIsInstance(
+                                part, (ast.Constant, ast.List, ast.Tuple, ast.Dict, ast.Name, ast.UnaryOp, ast.USub, ast.Load)
+                            )
 
     def test_each_name_once(self):
         for path in files():
@@ -157,6 +196,42 @@ class TestCode(unittest.TestCase):
                 for item in node.body:
                     self.assertIsInstance(item, (ast.FunctionDef, ast.Pass))
         self.assertEqual(own_methods() & own_values(), set())
+
+    def test_classes_are_not_handed_on(self):
+        for path in files():
+            self.assertEqual(loose_classes(ast.parse(path.read_text("ascii"))), [], path.name)
+
+    def test_methods_with_two_underscores(self):
+        for name, node in nodes_of(ast.FunctionDef):
+            if node.name in DUNDER:
+                with self.subTest(file=name, row=node.lineno):
+                    inner = list(ast.walk(node))
+                    if node.name == "__init__":
+                        self.assertFalse([part for part in inner if isinstance(part, ast.Return)])
+                    else:
+                        self.assertFalse([part for part in inner if isinstance(part, (ast.Assign, ast.AugAssign))])
+
+    def test_keywords_of_calls(self):
+        classes = own_classes()
+        for name, node in nodes_of(ast.Call):
+            called = node.func.id if isinstance(node.func, ast.Name) else None
+            if called not in KEYWORDS and (called in BUILT_IN or called in classes or called is None):
+                with self.subTest(file=name, row=node.lineno):
+                    self.assertEqual(node.keywords, [])
+            if called in KEYWORDS:
+                for keyword in node.keywords:
+                    self.assertIn(keyword.arg, KEYWORDS[called])
+
+    def test_sets_are_asked_on_the_spot(self):
+        held = set()
+        for name, node in nodes_of((ast.Call, ast.Compare)):
+            if isinstance(node, ast.Compare):
+                held |= {(name, part.lineno, part.col_offset) for part in [node.left] + node.comparators}
+            elif isinstance(node.func, ast.Name) and node.func.id in ("len", "sorted"):
+                held |= {(name, part.lineno, part.col_offset) for part in node.args}
+        for name, node in nodes_of(ast.Call):
+            if isinstance(node.func, ast.Name) and node.func.id in ("set", "frozenset"):
+                self.assertIn((name, node.lineno, node.col_offset), held)
 
     def test_small_forms(self):
         for name, node in nodes_of(ast.AST):
