@@ -27,6 +27,8 @@ KEYWORDS = {
     "sorted": ("key", "reverse"), "min": ("key", "default"), "max": ("key", "default"), "sum": ("start",),
     "enumerate": ("start",), "zip": ("strict",),
 }
+WALKED = "zip enumerate reversed range items keys values".split()
+WALKERS = "list tuple dict sorted sum any all enumerate zip min max".split()
 DUNDER = ("__init__", "__eq__", "__repr__", "__str__", "__len__")
 WORDS_OUT = """type typing typing_extensions enum Enum IntEnum StrEnum Flag IntFlag Generic Protocol ABC ABCMeta
 namedtuple NamedTuple TypedDict TYPE_CHECKING abstractmethod""".split()
@@ -232,6 +234,27 @@ class TestCode(unittest.TestCase):
         for name, node in nodes_of(ast.Call):
             if isinstance(node.func, ast.Name) and node.func.id in ("set", "frozenset"):
                 self.assertIn((name, node.lineno, node.col_offset), held)
+
+    def test_what_is_walked_is_walked_on_the_spot(self):
+        held = set()
+        for name, node in nodes_of((ast.For, ast.comprehension, ast.Call)):
+            if not isinstance(node, ast.Call):
+                held.add((name, node.iter.lineno, node.iter.col_offset))
+            elif isinstance(node.func, ast.Name) and node.func.id in WALKERS and node.args:
+                held.add((name, node.args[0].lineno, node.args[0].col_offset))
+        for name, node in nodes_of(ast.Call):
+            called = node.func.id if isinstance(node.func, ast.Name) else node.func.attr
+            if called in WALKED:
+                with self.subTest(file=name, row=node.lineno):
+                    self.assertIn((name, node.lineno, node.col_offset), held)
+
+    def test_methods_are_called_where_they_stand(self):
+        called = {(name, node.func.lineno, node.func.end_col_offset) for name, node in nodes_of(ast.Call)}
+        methods = (set(METHODS) - own_values()) | own_methods()
+        for name, node in nodes_of(ast.Attribute):
+            if node.attr in methods:
+                with self.subTest(file=name, row=node.lineno):
+                    self.assertIn((name, node.lineno, node.end_col_offset), called)
 
     def test_small_forms(self):
         for name, node in nodes_of(ast.AST):
