@@ -142,6 +142,39 @@ class TestTops(unittest.TestCase):
                                 part, (ast.Constant, ast.List, ast.Tuple, ast.Dict, ast.Name, ast.UnaryOp, ast.USub, ast.Load)
                             )
 
+    def test_lists_and_dicts_of_a_files_top_hold_no_other_and_functions_from_above(self):
+        for path in files():
+            above = []
+            for node in ast.parse(path.read_text("ascii")).body:
+                if isinstance(node, ast.FunctionDef):
+                    above.append(node.name)
+                elif isinstance(node, ast.Assign):
+                    inner = list(ast.walk(node.value))[1:]
+                    with self.subTest(file=path.name, row=node.lineno):
+                        self.assertFalse([part for part in inner if isinstance(part, (ast.List, ast.Dict))])
+                        for part in inner:
+                            self.assertTrue(not isinstance(part, ast.Name) or part.id in above)
+
+    def test_lists_and_dicts_of_a_files_top_are_only_read(self):
+        for path in files():
+            tree = ast.parse(path.read_text("ascii"))
+            kept = [
+                node.targets[0].id for node in tree.body
+                if isinstance(node, ast.Assign) and isinstance(node.value, (ast.List, ast.Dict))
+            ]
+            held = set()
+            for node in ast.walk(tree):
+                if isinstance(node, ast.Subscript) and isinstance(node.ctx, ast.Load):
+                    held.add(id(node.value))
+                elif isinstance(node, ast.Compare):
+                    held |= {id(part) for part in node.comparators}
+                elif isinstance(node, (ast.For, ast.comprehension)):
+                    held.add(id(node.iter))
+            for node in ast.walk(tree):
+                if isinstance(node, ast.Name) and node.id in kept and isinstance(node.ctx, ast.Load):
+                    with self.subTest(file=path.name, row=node.lineno):
+                        self.assertIn(id(node), held)
+
     def test_each_name_once(self):
         for path in files():
             bound = []
@@ -243,7 +276,7 @@ class TestCode(unittest.TestCase):
             elif isinstance(node.func, ast.Name) and node.func.id in WALKERS and node.args:
                 held.add((name, node.args[0].lineno, node.args[0].col_offset))
         for name, node in nodes_of(ast.Call):
-            called = node.func.id if isinstance(node.func, ast.Name) else node.func.attr
+            called = getattr(node.func, "id", getattr(node.func, "attr", None))
             if called in WALKED:
                 with self.subTest(file=name, row=node.lineno):
                     self.assertIn((name, node.lineno, node.col_offset), held)
